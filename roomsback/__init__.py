@@ -1,0 +1,1 @@
+"""Roomsback: rooms for results, and when they may be given back."""
