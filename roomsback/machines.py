@@ -5,7 +5,7 @@ from roomsback.errors import NotPossible
 from roomsback.firing import fires
 from roomsback.kinds import is_number, is_rule, is_size
 from roomsback.moving import (
-    can_enter, can_judge, can_leave, can_move, can_run, can_take,
+    can_judge, can_leave, can_move, can_run, can_take,
     happenings, is_move_of, moments_here, needs_here, stepped,
 )
 from roomsback.stands import is_stand_of, rooms_in
@@ -78,15 +78,16 @@ def possible_moves(size, stand):
     """Yield the moves that are possible in the stand."""
     demand(is_size(size), "size")
     demand(is_stand_of(size, stand), "stand")
+    names, places, _, _ = size
+    _, free, _, flight = stand
     yield from moves_within(stand)
-    guesses = [("guess",)] if size[2] >= 1 else []
-    for step in [*guesses, *sames_of(size)]:
-        if can_enter(size, stand, step):
+    for step in [("guess",), *sames_of(size)]:
+        if can_move(size, stand, ("enter", step)):
             yield ("enter", step)
     # Without a free room, or a place, there is no need to go through all makes.
-    if len(stand[1]) == 0 or len(stand[3]) >= size[1]:
+    if len(free) == 0 or len(flight) >= places:
         return
-    for step in makes_of(size[0]):
-        for room in stand[1]:
+    for step in makes_of(names):
+        for room in free:
             if can_take(size, stand, step, room):
                 yield ("take", step, room)

@@ -92,7 +92,7 @@ class Forms(Case):
                 self.same(own and step[0] != "make", is_move, size, ("enter", step))
                 for thing in (True, -1, None, "0", (0,), [0]):
                     self.same(False, is_move, size, ("take", step, thing))
-                for move in (("take", step), ("enter", step, 0), ("take", step, 0, 0), ("enter", list(step)),
+                for move in (("take", step), ("taken", step, 0), ("enters", step), ("enter", step, 0), ("take", step, 0, 0), ("enter", list(step)),
                              ["enter", step], ["take", step, 0], (step,), step):
                     self.same(False, is_move, size, move)
             for word in ("run", "right", "wrong"):

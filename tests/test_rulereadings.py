@@ -162,7 +162,7 @@ class SizeReading(Case):
         for text, column in [
                 ("", 0), (" ", 0), ("x", 1), ("x ", 2), ("x;", 2), ("x  y", 2), ("x x" + tail, 3), ("b a" + tail, 2),
                 ("b b" + tail, 3), ("b ba", 4), ("bb ba", 4), ("abcdefghi" + tail, 8), ("A" + tail, 0),
-                ("zzzzzzzz a" + tail, 8), ("zzzzzzzz ", 8), ("zzzzzzz z" + tail, 9), ("zzzzzzz zzzzzzz" + tail, 15),
+                ("zzzzzzzz a" + tail, 8), ("zzzzzzzz ", 8), ("a zzzzzzzz ", 10), ("zzzzzzz z" + tail, 9), ("zzzzzzz zzzzzzz" + tail, 15),
                 ("zzzzzzza zzzzzzz" + tail, 16), ("zzzzzzza zzzzzzza" + tail, 16), ("zzzzzzza zzzzzzzb" + tail, None),
                 ("x; 0 places; 0 guesses; copies", 3), ("x; 01 places; 0 guesses; copies", 3),
                 ("x; 1 places; 00 guesses; copies", 14), ("x; 1 places; 01 guesses; copies", 14),

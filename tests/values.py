@@ -21,6 +21,7 @@ STRANGE = [
     ("make",), ("guess", "guess"), ["guess"], ("same", "a", "a"), ("same", "a"), ("make", "a"),
     ("make", "a", ("b", "a")), ("make", "a", ["a"]), ("make", "a", ("a", "a")), ("make", "", ()), ("made", "a", ()),
     ("make", "ninelette", ()), ("make", "a", None), ("make", "a", "a"), ("make", "a", (1,)), (("guess",),),
+    ("copy", "a", "b"), ("same", "A", "b"), ("same", "a", "ninelette"), ("same", "a", ("b",)), ("guess", "a", "b"),
 ]
 
 
