@@ -52,6 +52,14 @@ def given_back(size, rule, stand, move, behind):
     return [room for _, room in happened if fires(rule, moments_here(happened, room), needs_here(behind, room))]
 
 
+def stand_after(size, rule, stand, move):
+    """Return what moved returns, of arguments that are known to be usable, and a move that is possible."""
+    behind = stepped(size, stand, move)
+    leads, free, filled, flight = behind
+    given = given_back(size, rule, stand, move, behind)
+    return leads, tuple(sorted(set([*free, *given]))), filled, flight
+
+
 def moved(size, rule, stand, move):
     """Return the stand behind a move, with what the rule gives back."""
     demand(is_size(size), "size")
@@ -59,10 +67,7 @@ def moved(size, rule, stand, move):
     demand(is_stand_of(size, stand), "stand")
     if not can_move(size, stand, move):
         raise NotPossible(-1)
-    behind = stepped(size, stand, move)
-    leads, free, filled, flight = behind
-    given = given_back(size, rule, stand, move, behind)
-    return leads, tuple(sorted(set([*free, *given]))), filled, flight
+    return stand_after(size, rule, stand, move)
 
 
 def moves_within(stand):

@@ -1,11 +1,11 @@
 """What moves do, for sizes, stands and moves that are known to be usable."""
 
-from roomsback.kinds import is_number, is_step_of
+from roomsback.kinds import is_any_step, is_number, is_step_of
 from roomsback.stands import is_open, open_guesses, turned_by
 
 
-def is_move_of(size, thing):
-    """Tell whether any value is a move of this size, by form."""
+def is_any_move(thing):
+    """Tell whether any value is a move of some size, by form."""
     if not isinstance(thing, tuple) or len(thing) == 0 or not isinstance(thing[0], str):
         return False
     word, *rest = thing
@@ -14,10 +14,22 @@ def is_move_of(size, thing):
     if word in ("run", "right", "wrong"):
         return len(rest) == 1 and is_number(rest[0])
     if word == "enter":
-        return len(rest) == 1 and is_step_of(size, rest[0]) and rest[0][0] != "make"
+        return len(rest) == 1 and is_any_step(rest[0]) and rest[0][0] != "make"
     if word != "take" or len(rest) != 2:
         return False
-    return is_step_of(size, rest[0]) and rest[0][0] == "make" and is_number(rest[1])
+    return is_any_step(rest[0]) and rest[0][0] == "make" and is_number(rest[1])
+
+
+def are_moves(thing):
+    """Tell whether any value is a tuple of moves of some size, by form."""
+    return isinstance(thing, tuple) and all([is_any_move(move) for move in thing])
+
+
+def is_move_of(size, thing):
+    """Tell whether any value is a move of this size, by form."""
+    if not is_any_move(thing):
+        return False
+    return thing[0] not in ("take", "enter") or is_step_of(size, thing[1])
 
 
 def led_by(size, stand, names):

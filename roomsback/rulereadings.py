@@ -69,8 +69,12 @@ def size_ways(about, part, got):
     return [by_word("copies", (True,), "end"), by_word("no copies", (False,), "end")]
 
 
+def size_of(got):
+    """Return the size of which these names and numbers were read."""
+    return (got[:-3], *got[-3:])
+
+
 def size_read(text):
     """Return the size that a string writes."""
     demand(isinstance(text, str), "text")
-    got = read_line(text, size_ways, None, 0)
-    return (got[:-3], *got[-3:])
+    return size_of(read_line(text, size_ways, None, 0))
