@@ -1,5 +1,7 @@
 """[9] once more, by machines: a view is made a stand in which room 0 is seen so, and what happens there is seen again."""
 
+import random
+
 from tests import machinewords, runwords
 
 ROOM, SPARE, OTHER = 0, 50, 100
@@ -145,3 +147,68 @@ def some_rules(many, chance):
                 clauses.add((moment, tuple(tests)))
         found.append(tuple(sorted(clauses)))
     return found
+
+
+def path_fault(size, rule, thing):
+    """[37]: the word and the place at which a pair of any value and a tuple of moves of views is no path, or None."""
+    start, path_moves = thing
+    if repr(start) not in map(repr, starts(size)):
+        return "start", -1
+    view = start
+    for k, move in enumerate(path_moves):
+        if move not in every_move(size) or not is_move(size, view, move):
+            return "move", k
+        if in_hands(size, view, move) and k < len(path_moves) - 1:
+            return "hands", k
+        view = behind(size, rule, view, move)
+    return None
+
+
+def a_path(size, rule, most, chance):
+    """Some path of up to so many moves, each word as likely, but into two hands rather than elsewhere."""
+    view = chance.choice(starts(size))
+    start, path_moves = view, []
+    for _ in range(chance.randrange(most + 1)):
+        ways = moves(size, view)
+        if not ways:
+            break
+        word = chance.choice(sorted({move[0] for move in ways}))
+        move = chance.choice([move for move in ways if move[0] == word])
+        into_hands = [move for move in ways if in_hands(size, view, move)]
+        if into_hands and chance.random() < 0.3:
+            move = chance.choice(into_hands)
+        path_moves.append(move)
+        if in_hands(size, view, move):
+            break
+        view = behind(size, rule, view, move)
+    return start, tuple(path_moves)
+
+
+def some_paths(many, seed, most=20):
+    """Triples of a size, a rule, and a path."""
+    chance = random.Random(seed)
+    found = []
+    for _ in range(many):
+        size = chance.choice(SMALL + WIDE)
+        rule = some_rules(5, chance)[chance.randrange(5)]
+        rule = chance.choice([rule, rule, machinewords.a_rule(chance)])
+        found.append((size, rule, a_path(size, rule, most, chance)))
+    return found
+
+
+def a_view(size, chance):
+    """Some view by form, to which no path need lead."""
+
+    def some_names():
+        return tuple(sorted(chance.sample(size[0], chance.randrange(len(size[0]) + 1))))
+
+    entries = []
+    opened = 0
+    for _ in range(chance.randrange(size[1] + 1)):
+        if opened < size[2] and chance.random() < 0.4:
+            opened += 1
+            entries.append(("guess", some_names()))
+        else:
+            words = {chance.choice(["made", "makes", "reads", "turns"]), chance.choice(["turns", "turns", ""])} - {""}
+            entries.append(tuple(sorted(words)) if chance.random() < 0.8 else ())
+    return some_names(), chance.random() < 0.5, chance.random() < 0.5, tuple(entries)
