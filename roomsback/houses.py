@@ -108,7 +108,7 @@ class House:
 
     def __getitem__(self, at):
         names = self._size[0]
-        demand(isinstance(at, str) and at in names, "name")
+        demand(at in names, "name")
         return self.stand_now[0][names.index(at)]
 
     def __contains__(self, x):

@@ -1,9 +1,8 @@
 """The lines of moves, runs and stands."""
 
 from roomsback.demands import demand
-from roomsback.kinds import is_size
 from roomsback.lookings import holders_of
-from roomsback.machines import demand_rooms, is_stand
+from roomsback.machines import is_stand
 from roomsback.moving import are_moves, is_any_move, needs_here
 from roomsback.ruletexts import step_text
 
@@ -41,7 +40,6 @@ def room_row(size, stand, room):
 
 def stand_rows(size, rooms, stand):
     """Return a list of the rows of all rooms in a stand."""
-    demand(is_size(size), "size")
-    demand_rooms(size, rooms)
+    # That the size and the number of rooms are usable is seen to by is_stand.
     demand(is_stand(size, rooms, stand), "stand")
     return [room_row(size, stand, room) for room in range(rooms)]

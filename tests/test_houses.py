@@ -245,6 +245,12 @@ class Houses(Case):
         second.undo()
         second.go(TAKE)
         self.assertIs(first == second, True)
+        # The same stand, but other moves.
+        first, second = House(SIZE, (), 3), House(SIZE, (), 3)
+        for move in (("enter", ("guess",)), ("right", 0), ("leave",)):
+            first.go(move)
+        self.assertEqual(first.stand_now, second.stand_now)
+        self.assertIs(first == second, False)
 
     def test_names_and_rooms(self):
         house = House(SIZE, HASTY, 3)
