@@ -17,6 +17,12 @@ def first_ledger(size, rooms):
     return 0, names + (None,) * (rooms - len(names)), names, (), ()
 
 
+def with_room(ledger):
+    """Return the ledger with a further room, the next one."""
+    entered, held, cells, notes, left = ledger
+    return entered, (*held, None), cells, notes, left
+
+
 def results_of(size, cells, names):
     """Return the tuple of the results in the cells of these names."""
     return tuple([cells[size[0].index(name)] for name in names])

@@ -27,6 +27,24 @@ def lifted(view, move, room, spare):
     return [taken] if len(move[1][2]) > 0 else [taken, ("run", len(view[3]))]
 
 
+def lifted_moves(views, moves, room, spare):
+    """Return a list of the moves of a machine that are seen from the room as these moves, each in its view.
+
+    No step has touched the room spare, or one above it.
+    """
+    found = []
+    for view, move in zip(views, moves):
+        found.extend(lifted(view, move, room, spare))
+        # Each make that does not take the room takes another one.
+        spare = spare + 1 if is_make(move) else spare
+    return found
+
+
+def makes_along(moves):
+    """Return how many makes enter by these moves of views."""
+    return len([move for move in moves if is_make(move)])
+
+
 def run_of(size, rule, path):
     """Return a triple of a number of rooms, a run, and a room of which this is the path along the run."""
     demand(is_size(size), "size")
@@ -34,12 +52,5 @@ def run_of(size, rule, path):
     views = views_along(size, rule, path)
     start, moves = path
     room = room_of(size, start)
-    # Each make that does not take the room takes one that no step has touched.
     spare = len(size[0]) + 1 if start[1] else len(size[0])
-    run = []
-    for view, move in zip(views, moves):
-        run.extend(lifted(view, move, room, spare))
-        if is_make(move):
-            spare = spare + 1
-    rooms = len(size[0]) + len([move for move in moves if is_make(move)]) + 1
-    return rooms, tuple(run), room
+    return len(size[0]) + makes_along(moves) + 1, tuple(lifted_moves(views, moves, room, spare)), room

@@ -15,6 +15,8 @@ ALLOWED = set("""len range enumerate zip min max sum abs sorted reversed int str
     isinstance ord repr any all divmod iter next map Exception ValueError TypeError KeyError IndexError LookupError
     ZeroDivisionError ArithmeticError OverflowError RuntimeError NotImplementedError AttributeError StopIteration
     NotImplemented property staticmethod classmethod super""".split())
+# Where examples were run before, Python calls the last result _.
+BUILTINS = set(dir(builtins)) - {"_"}
 METHODS = set("""__init__ __eq__ __repr__ __str__ __len__ __enter__ __exit__ __call__ __iter__ __add__ __sub__
     __and__ __or__ __contains__ __getitem__ __setitem__ __iadd__""".split())
 BARRED = (ast.Global, ast.AsyncFunctionDef, ast.Await, ast.AsyncFor, ast.AsyncWith, ast.Div, ast.Import)
@@ -90,11 +92,10 @@ class Language(unittest.TestCase):
             for node in functions(tree):
                 bound = set(bound_names(node))
                 self.assertEqual(bound & (classes | imported), set(), (name, node.name))
-                # Where examples were run before, Python calls the last result _.
-                self.assertEqual(bound & set(dir(builtins)) - {"_"}, set(), (name, node.name))
+                self.assertEqual(bound & BUILTINS, set(), (name, node.name))
                 self.assertEqual((bound | {node.name}) & NAMES, set(), (name, node.name))
             for node in ast.walk(tree):
-                if isinstance(node, ast.Name) and hasattr(builtins, node.id):
+                if isinstance(node, ast.Name) and node.id in BUILTINS:
                     self.assertIn(node.id, ALLOWED, (name, node.lineno))
 
     def test_imports(self):
