@@ -9,7 +9,6 @@ from roomsback.machines import first_stand
 from roomsback.pathwalks import views_along
 from roomsback.runs import draining_moves
 from roomsback.verdicts import verdict_on
-from roomsback.viewing import view_of
 from roomsback.walking import stands_from
 
 
@@ -23,30 +22,25 @@ def rooms_needed(size, rule):
     return len(size[0]) + 1 if verdict_on(size, rule) == "good" else None
 
 
-def starting(size, stand, start, spare):
-    """Return moves behind which a room has this start view, and the room; nothing is in flight.
+def renewing_moves(start, spare):
+    """Return moves behind which the name of a start view, if it has one, leads alone to the room spare.
 
-    No step has touched the room spare, or one above it.
+    Nothing is in flight ahead of them, and no step has touched the room.
     """
-    names = start[0]
-    if len(names) == 0:
-        return [], spare
-    room = stand[0][size[0].index(names[0])]
-    if view_of(size, stand, room) == start:
-        return [], room
-    # Else no new result is in the room of the name, or another name leads there, too.
-    return [("take", ("make", names[0], ()), spare), ("run", 0), ("leave",)], spare
+    if len(start[0]) == 0:
+        return []
+    return [("take", ("make", start[0][0], ()), spare), ("run", 0), ("leave",)]
 
 
 def losing_moves(size, rule, stand, path, spare):
-    """Return moves along which a room has the path, and behind which nothing is in flight, as before.
+    """Return moves along which a room has the path, and behind which nothing is in flight, as ahead of them.
 
-    No step has touched the room spare, or one above it.
+    If the start has a name, this leads to the room. No step has touched the room spare, or one above it.
     """
     views = views_along(size, rule, path)
     start, moves = path
-    ahead, room = starting(size, stand, start, spare)
-    found = [*ahead, *lifted_moves(views, moves, room, spare + 1)]
+    room = spare if start[1] else stand[0][size[0].index(start[0][0])]
+    found = lifted_moves(views, moves, room, spare + 1)
     behind = stands_from(size, rule, stand, found)[-1]
     return [*found, *draining_moves(size, rule, behind)]
 
@@ -64,13 +58,17 @@ def losing_run(size, rule, times):
         return None
     path = paper[0]
     many = len(size[0])
-    # A room is lost each time, and each make of the path may take another one.
-    each = 1 + makes_along(path[1])
+    # Each time takes rooms that are not touched yet: for the name, for the room that is lost, and for the makes.
+    each = 2 + makes_along(path[1])
     rooms = many + times * each
     run = []
     stand = first_stand(size, rooms)
     for k in range(times):
-        moves = losing_moves(size, rule, stand, path, many + k * each)
+        spare = many + k * each
+        # At first each name leads to a room of its own anyhow.
+        ahead = renewing_moves(path[0], spare) if k > 0 else []
+        stand = stands_from(size, rule, stand, ahead)[-1]
+        moves = losing_moves(size, rule, stand, path, spare + 1)
         stand = stands_from(size, rule, stand, moves)[-1]
-        run.extend(moves)
+        run.extend([*ahead, *moves])
     return rooms, tuple(run)

@@ -17,13 +17,10 @@ def lets_two(size, rule, thing):
     return many
 
 
-def check_views(size, thing):
-    """Refuse what is no ascending tuple of views of the size."""
-    if not isinstance(thing, tuple):
-        raise InvalidPaper("shape", -1)
-    for k, view in enumerate(thing):
-        if not is_view_of(size, view) or k > 0 and not thing[k - 1] < view:
-            raise InvalidPaper("view", k)
+def check_view(size, views, k):
+    """Refuse element k of a tuple if it is no view of the size, or not greater than the one ahead, which is one."""
+    if not is_view_of(size, views[k]) or k > 0 and not views[k - 1] < views[k]:
+        raise InvalidPaper("view", k)
 
 
 def check_ways(size, rule, known, k, view):
@@ -39,7 +36,10 @@ def lets_table(size, rule, thing):
     """Return the number of views of a table that shows that the rule is safe, or say why this value is none."""
     demand(is_size(size), "size")
     demand(is_rule(rule), "rule")
-    check_views(size, thing)
+    if not isinstance(thing, tuple):
+        raise InvalidPaper("shape", -1)
+    for k in range(len(thing)):
+        check_view(size, thing, k)
     known = {view: True for view in thing}
     for k, start in enumerate(starts_of(size)):
         if start not in known:

@@ -44,6 +44,7 @@ def losing(size, rule):
 
 def judged(size, rule):
     """[64]: hands, loses or good."""
-    if viewwords.judge(size, rule)[1] is not None:
+    views, least = viewwords.judge(size, rule)
+    if least is not None:
         return "hands"
-    return "good" if losing(size, rule) is None else "loses"
+    return "loses" if any(map(Lost(size, rule), views)) else "good"

@@ -17,6 +17,8 @@ ALLOWED = set("""len range enumerate zip min max sum abs sorted reversed int str
     NotImplemented property staticmethod classmethod super""".split())
 # Where examples were run before, Python calls the last result _.
 BUILTINS = set(dir(builtins)) - {"_"}
+# L23: what a generator's call may stand in, beside loops.
+ITERATING = ("list", "tuple", "sorted", "sum", "any", "all", "enumerate", "zip")
 METHODS = set("""__init__ __eq__ __repr__ __str__ __len__ __enter__ __exit__ __call__ __iter__ __add__ __sub__
     __and__ __or__ __contains__ __getitem__ __setitem__ __iadd__""".split())
 BARRED = (ast.Global, ast.AsyncFunctionDef, ast.Await, ast.AsyncFor, ast.AsyncWith, ast.Div, ast.Import)
@@ -56,8 +58,15 @@ class Language(unittest.TestCase):
         for name, tree in TREES.items():
             self.assertTrue(ast.get_docstring(tree), name)
             for node in tree.body[1:]:
-                if isinstance(node, ast.Assign):
+                if isinstance(node, ast.Assign) and isinstance(node.value, ast.Dict):
+                    # L3: a dict may have functions that are defined above.
+                    above = [part.name for part in tree.body if isinstance(part, ast.FunctionDef) and part.lineno < node.lineno]
+                    for key, worth in zip(node.value.keys, node.value.values):
+                        ast.literal_eval(key)
+                        self.assertTrue(isinstance(worth, ast.Name) and worth.id in above or ast.literal_eval(worth))
+                elif isinstance(node, ast.Assign):
                     ast.literal_eval(node.value)
+                if isinstance(node, ast.Assign):
                     self.assertEqual(len(node.targets), 1)
                 else:
                     self.assertIsInstance(node, plain, (name, node.lineno))
@@ -132,7 +141,7 @@ class Language(unittest.TestCase):
                     iterated.append(node.iter)
                 elif isinstance(node, ast.YieldFrom):
                     iterated.append(node.value)
-                elif isinstance(node, ast.Call) and ast.unparse(node.func) in ("list", "tuple", "sorted", "sum", "any", "all"):
+                elif isinstance(node, ast.Call) and ast.unparse(node.func) in ITERATING:
                     iterated += node.args[:1]
             for node in ast.walk(tree):
                 called = node.func if isinstance(node, ast.Call) else None
